@@ -1,0 +1,1 @@
+"""Surehouse: a shop that promises exactly what it can send, each coin and thing once."""
