@@ -15,6 +15,16 @@ INTERFACE = {
                "BadAccounts", "BadEntries", "BadKey", "BadDeals", "BadEvent", "BadParcel", "TooLow", "BadLine"),
     "catalogs": ("is_catalog",),
     "bundles": ("made_of", "opened"),
+    "promises": ("can_keep", "shows_can_keep"),
+    "books": ("Book", "asked_all"),
+    "waits": ("Waits",),
+    "costs": ("cheapest", "shows_cheapest"),
+}
+
+# The methods and properties that the interface lists for a class stand in the class itself.
+METHODS = {
+    ("books", "Book"): ("ask", "cancel", "sends", "most", "earliest", "curve", "orders", "refusals"),
+    ("waits", "Waits"): ("ask", "cancel", "promises", "row"),
 }
 
 LIBRARY = {
@@ -87,6 +97,14 @@ class LanguageTest(unittest.TestCase):
             defined = [node.name for node in tree.body if isinstance(node, (ast.FunctionDef, ast.ClassDef))]
             for name in listed:
                 self.assertIn(name, defined, module)
+
+    def test_methods_of_the_interface_stand_in_their_classes(self):
+        for (module, name), listed in METHODS.items():
+            tree = parsed(FOLDER / f"{module}.py")
+            body = [node.body for node in tree.body if isinstance(node, ast.ClassDef) and node.name == name][0]
+            defined = [node.name for node in body if isinstance(node, ast.FunctionDef)]
+            for method in listed:
+                self.assertIn(method, defined, name)
 
     def test_functions_have_at_most_forty_lines(self):
         for path, tree in self.each():
