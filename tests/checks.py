@@ -130,3 +130,66 @@ def are_prices(catalog, orders, sends, prices):
             if gap < 0 or (used and gap != 0):
                 return False
     return True
+
+
+def things_of(orders):
+    """The pair of each thing that is wanted."""
+    return [pair for pair in wishes_of(orders) for _ in range(wish_of(orders, pair)[1][1])]
+
+
+def can_be_served(catalog, orders, things, stocks, day):
+    """Whether things can be served of what supplies have, sent from a day on: thing by thing."""
+    if not things:
+        return True
+    for supply in catalog[4]:
+        if stocks[supply[0]] > 0 and can_serve(catalog, orders, things[0], supply, day):
+            left = dict(stocks)
+            left[supply[0]] -= 1
+            if can_be_served(catalog, orders, things[1:], left, day):
+                return True
+    return False
+
+
+def rest_on(catalog, orders, sends, house, day):
+    """Point 30: the things not sent ahead of a day, and what other houses have left then."""
+    things = things_of(orders)
+    stocks = {supply[0]: supply[4] for supply in catalog[4]}
+    for sent, name, place, supply, count in sends:
+        if sent < day:
+            stocks[supply] -= count
+            for _ in range(count):
+                things.remove((name, place))
+    for supply in catalog[4]:
+        if supply[1] == house:
+            stocks[supply[0]] = 0
+    return things, stocks
+
+
+def failures(catalog, orders, sends):
+    """The pairs (house, day) of all closings behind which sends with days cannot be mended."""
+    days = range(max([order[3] for order in orders], default=0) + 1)
+    return [(house, day) for house in catalog[0] for day in days
+            if not can_be_served(catalog, orders, *rest_on(catalog, orders, sends, house, day), day)]
+
+
+def all_dated(catalog, orders):
+    """All rows of sends with days, each sorted and thing by thing, counts of one kind together."""
+    rows = {(): {supply[0]: supply[4] for supply in catalog[4]}}
+    for pair in things_of(orders):
+        order, longer = wish_of(orders, pair)[0], {}
+        for sends, stocks in rows.items():
+            for supply in catalog[4]:
+                if stocks[supply[0]] == 0 or not can_serve(catalog, orders, pair, supply):
+                    continue
+                left = dict(stocks)
+                left[supply[0]] -= 1
+                last = order[3] - lane_between(catalog, supply[1], order[1])[3]
+                for day in range(supply[3], last + 1):
+                    longer[tuple(sorted(sends + ((day,) + pair + (supply[0],),)))] = left
+        rows = longer
+    return [tuple(key + (sends.count(key),) for key in sorted(set(sends))) for sends in rows]
+
+
+def sure_ones(catalog, orders):
+    """All rows of sends with days that are sure."""
+    return [sends for sends in all_dated(catalog, orders) if not failures(catalog, orders, sends)]

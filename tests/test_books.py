@@ -346,6 +346,13 @@ class MostTest(unittest.TestCase):
                          [0, 0, 60, 60, None, None])
         self.assertEqual(book.curve(("tea",), "ra"), ((0, 2), (60, 5)))
 
+    def test_what_comes_behind_day_sixty(self):
+        lanes = (("east", "ra", 0, 1, 0), ("east", "rb", 0, 0, 0))
+        book = Book((("east",), ("ra", "rb"), ("tea",), lanes, (("s", "east", "tea", 60, 2),)))
+        self.assertEqual((book.most(("tea",), "ra", 60), book.most(("tea",), "rb", 60)), ((0, ()), (2, ())))
+        self.assertEqual((book.earliest(("tea",), "ra", 1), book.earliest(("tea",), "rb", 1)), (None, 60))
+        self.assertEqual((book.curve(("tea",), "ra"), book.curve(("tea",), "rb")), ((), ((60, 2),)))
+
     def test_what_is_promised_is_asked_together(self):
         book = Book(SHOP)
         book.ask(tea("a", 3))

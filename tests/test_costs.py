@@ -236,7 +236,8 @@ class ShowsCheapestTest(unittest.TestCase):
         orders = (("o", "ra", ((("tea",), 11),), 3, 1), ("p", "rb", ((("tea",), 1),), 3, 1))
         self.shown(("cut", (("o", 0),)), ("cut", (("o", 0), ("p", 0))), ("cut", (("p", 0), ("o", 0))), orders=orders)
         self.not_shown(("cut", (("p", 0),)), ("cut", (("o", 0), ("o", 0))), ("cut", ()), ("cut", (("o", 0),), 0),
-                       ("cut", (("o", False),)), ("cut", [("o", 0)]), ["cut", (("o", 0),)], ("plan", ()),
+                       ("cut", (("o", False),)), ("cut", [("o", 0)]), ("cut",), ("plan",), ("Cut", (("o", 0),)),
+                       (True, (("o", 0),)), ["cut", (("o", 0),)], ("plan", ()),
                        ("cut", (("o", 0),), 7, ((0, 0, 0), (0, 0))), orders=orders)
         self.not_shown(("cut", (("o", 0),)), ("cut", ()))
 

@@ -19,12 +19,17 @@ INTERFACE = {
     "books": ("Book", "asked_all"),
     "waits": ("Waits",),
     "costs": ("cheapest", "shows_cheapest"),
+    "shortage": ("best_kept", "shows_best_kept", "without", "closed", "if_closed"),
+    "insured": ("insured", "is_sure", "mended", "SureBook"),
+    "parcels": ("windows", "arrivals", "sheet", "left_after", "come"),
+    "sums": ("shared", "stepped", "taxed", "net_of"),
 }
 
 # The methods and properties that the interface lists for a class stand in the class itself.
 METHODS = {
     ("books", "Book"): ("ask", "cancel", "sends", "most", "earliest", "curve", "orders", "refusals"),
     ("waits", "Waits"): ("ask", "cancel", "promises", "row"),
+    ("insured", "SureBook"): ("ask", "sends", "orders"),
 }
 
 LIBRARY = {

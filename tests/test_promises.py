@@ -232,6 +232,10 @@ class ShowsCanKeepTest(unittest.TestCase):
         self.not_shown(one, ("plan", (("o", 0, "u", 2), ("o", 0, "u", 2))),
                        ("plan", (("o", 0, "u", 1), ("o", 0, "u", 3))))
 
+    def test_a_send_of_nothing_or_less_beside_the_others(self):
+        self.not_shown(TWO, ("plan", PLAN + (("o", 1, "t", 0),)),
+                       ("plan", replaced(PLAN, 2, ("o", 1, "u", 4)) + (("o", 1, "t", -1),)))
+
     def test_a_supply_that_cannot_serve(self):
         late = (("o", "ra", ((("tea",), 3),), 3, 1),)
         self.shown(late, ("plan", (("o", 0, "s", 3),)))
@@ -261,6 +265,8 @@ class ShowsCanKeepTest(unittest.TestCase):
                        ("cut", cut + cut[:1]), ("cut", cut[:1] + cut[:1]), ("cut", (("o", 0), ("o", True))),
                        ("cut", (("o", False), ("o", 1))), ("cut", cut + (("o", 2),)), ("cut", cut + (("q", 0),)),
                        ("cut", cut + (("o", -1),)), ("cut", cut + (("p", 1),)), ("cut", list(cut)),
+                       ("cut", cut + (("p", 0, []),)), ("cut", cut + ((["p"], 0),)), ("Cut", cut), (True, cut),
+                       (None, cut), ("", cut), (["cut"], cut),
                        ("cut", (["o", 0], ("o", 1))), ("cut", (("o", 0, 3), ("o", 1, 3))), ("cut", (("o",), ("o", 1))))
         for value in ODD_VALUES:
             self.not_shown(orders, ("cut", value), ("cut", cut + (value,)), ("cut", (("o", 0), ("o", value))),
