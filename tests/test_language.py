@@ -23,6 +23,10 @@ INTERFACE = {
     "insured": ("insured", "is_sure", "mended", "SureBook"),
     "parcels": ("windows", "arrivals", "sheet", "left_after", "come"),
     "sums": ("shared", "stepped", "taxed", "net_of"),
+    "bills": ("bill", "total_of", "refund", "refunds"),
+    "ledgers": ("Ledger",),
+    "worlds": ("World",),
+    "audits": ("faults", "audit"),
 }
 
 # The methods and properties that the interface lists for a class stand in the class itself.
@@ -30,6 +34,8 @@ METHODS = {
     ("books", "Book"): ("ask", "cancel", "sends", "most", "earliest", "curve", "orders", "refusals"),
     ("waits", "Waits"): ("ask", "cancel", "promises", "row"),
     ("insured", "SureBook"): ("ask", "sends", "orders"),
+    ("ledgers", "Ledger"): ("post", "turn_back", "balance", "as_of", "balances", "keys_told"),
+    ("worlds", "World"): ("do", "can", "stage", "things", "coins", "finish", "log", "letters"),
 }
 
 LIBRARY = {
