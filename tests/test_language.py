@@ -9,7 +9,7 @@ import unittest
 FOLDER = pathlib.Path(__file__).resolve().parent.parent / "surehouse"
 FILES = sorted(path for path in FOLDER.rglob("*") if path.is_file() and "__pycache__" not in path.parts)
 
-# What the interface lists under the modules that have landed.
+# What the interface lists under its modules.
 INTERFACE = {
     "errors": ("ShopError", "BadCatalog", "BadOrder", "BadNumber", "BadItem", "BadName", "BadPrices", "BadBill",
                "BadAccounts", "BadEntries", "BadKey", "BadDeals", "BadEvent", "BadParcel", "TooLow", "BadLine"),
@@ -27,6 +27,10 @@ INTERFACE = {
     "ledgers": ("Ledger",),
     "worlds": ("World",),
     "audits": ("faults", "audit"),
+    "schedules": ("reached", "replayed", "first_fault", "all_end"),
+    "links": ("world_of", "done", "catalog_behind"),
+    "shoptexts": ("write_catalog", "read_catalog", "write_order", "read_order"),
+    "desk": ("Desk",),
 }
 
 # The methods and properties that the interface lists for a class stand in the class itself.
@@ -36,6 +40,7 @@ METHODS = {
     ("insured", "SureBook"): ("ask", "sends", "orders"),
     ("ledgers", "Ledger"): ("post", "turn_back", "balance", "as_of", "balances", "keys_told"),
     ("worlds", "World"): ("do", "can", "stage", "things", "coins", "finish", "log", "letters"),
+    ("desk", "Desk"): ("read", "say"),
 }
 
 LIBRARY = {
