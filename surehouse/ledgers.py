@@ -48,6 +48,11 @@ def added(sums, entries):
     return found
 
 
+def balances_of(accounts, sums):
+    """The pairs (account, cents), in the order of the accounts."""
+    return tuple([(account[0], sums[account[0]]) for account in accounts])
+
+
 class Ledger:
     """Accounts, and the postings by key."""
 
@@ -61,7 +66,7 @@ class Ledger:
     @property
     def balances(self):
         """The pairs (account, cents) of now."""
-        return self._told(self._sums)
+        return balances_of(self._accounts, self._sums)
 
     @property
     def keys_told(self):
@@ -104,8 +109,4 @@ class Ledger:
         sums = {name: 0 for name in self._sums}
         for entries in list(self._posted.values())[:many]:
             sums = added(sums, entries)
-        return self._told(sums)
-
-    def _told(self, sums):
-        """The pairs (account, cents), in the order of the accounts."""
-        return tuple([(account[0], sums[account[0]]) for account in self._accounts])
+        return balances_of(self._accounts, sums)

@@ -62,6 +62,12 @@ BARRED_WORDS = (
 ).split()
 BARRED_NODES = (ast.Global, ast.AsyncFunctionDef, ast.AsyncFor, ast.AsyncWith, ast.Await, ast.Import, ast.Div)
 MODULE_LEVEL = (ast.ImportFrom, ast.FunctionDef, ast.ClassDef, ast.Assign)
+# What a property may call of builtin values, and what is run as a property is.
+QUIET_METHODS = ("items", "keys", "values", "get", "index", "count", "find", "join", "split", "strip")
+RUN_ALONG = ("__eq__", "__str__", "__repr__", "__len__")
+# In these a change or a call could stand that the search below does not see for what it is.
+HIDING_NODES = (ast.FunctionDef, ast.Lambda, ast.GeneratorExp, ast.Yield, ast.YieldFrom, ast.Nonlocal, ast.Delete,
+                ast.With, ast.NamedExpr)
 
 
 def parsed(path):
@@ -88,6 +94,64 @@ def names_bound(tree):
     names += [node.name for node in ast.walk(tree) if isinstance(node, (ast.FunctionDef, ast.ClassDef))
               and not node.name.startswith("__")]
     return names
+
+
+def defined_by_name(trees):
+    """By name: all functions, methods and properties of the package that are called so, whatever class they are of."""
+    found = {}
+    for tree in trees:
+        for node in ast.walk(tree):
+            if isinstance(node, ast.FunctionDef):
+                found.setdefault(node.name, []).append(node)
+    return found
+
+
+def is_property(node):
+    return any(isinstance(name, ast.Name) and name.id == "property" for name in node.decorator_list)
+
+
+def names_called(node, functions):
+    """The own names that a function calls, and what it calls or changes that a property may not."""
+    called, wrong = [], []
+    for part in ast.walk(node):
+        if isinstance(part, HIDING_NODES) and part is not node:
+            wrong.append((part.lineno, "hides"))
+        elif isinstance(part, (ast.Attribute, ast.Subscript)) and not isinstance(part.ctx, ast.Load):
+            wrong.append((part.lineno, "changes"))
+        elif isinstance(part, ast.AugAssign) and not isinstance(part.value, ast.Constant):
+            wrong.append((part.lineno, "changes"))
+        elif isinstance(part, ast.Call) and isinstance(part.func, ast.Name):
+            name = part.func.id
+            if name in functions and name not in names_bound(node):
+                called.append(name)
+            elif name not in BUILTINS or name in ("setattr", "next", "super"):
+                wrong.append((part.lineno, name))
+        elif isinstance(part, ast.Call):
+            name = part.func.attr if isinstance(part.func, ast.Attribute) else ""
+            if name in functions and isinstance(part.func.value, ast.Name) and part.func.value.id == "self":
+                called.append(name)
+            elif name in functions or name not in QUIET_METHODS:
+                wrong.append((part.lineno, name))
+    return called, wrong
+
+
+def faults_of_properties(trees):
+    """By property: what it, or what it calls by name, calls or changes and may not."""
+    functions = defined_by_name(trees)
+    found = {}
+    for rows in functions.values():
+        for node in rows:
+            if not is_property(node) and node.name not in RUN_ALONG:
+                continue
+            faults, seen, ahead = [], set(), [node]
+            while ahead:
+                one = ahead.pop()
+                called, wrong = names_called(one, functions)
+                faults += [(one.name, *row) for row in wrong]
+                ahead += [row for name in called if name not in seen for row in functions[name]]
+                seen.update(called)
+            found.setdefault(node.name, []).extend(faults)
+    return found
 
 
 class LanguageTest(unittest.TestCase):
@@ -161,6 +225,30 @@ class LanguageTest(unittest.TestCase):
                     self.assertNotIsInstance(node.value, (float, complex))
                     if isinstance(node.value, str):
                         self.assertNotIn("%", node.value)
+
+    def test_properties_change_nothing(self):
+        found = faults_of_properties([tree for _, tree in self.each()])
+        listed = {"balances", "keys_told", "letters", "log", "orders", "promises", "refusals", "row"}
+        self.assertEqual(set(found), listed)
+        self.assertEqual(found, {name: [] for name in listed})
+
+    def test_properties_have_names_of_their_own(self):
+        for name, rows in defined_by_name([tree for _, tree in self.each()]).items():
+            self.assertIn(len([row for row in rows if is_property(row)]), (0, len(rows)), name)
+
+    def test_methods_are_told_apart_by_name_alone(self):
+        box = "class Box:\n    @property\n    def many(self):\n        return self._told()\n\n"
+        box += "    def _told(self):\n        return len(self.rows)\n"
+        self.assertEqual(faults_of_properties([ast.parse(box)]), {"many": []})
+        desk = "class Desk:\n    def _told(self):\n        return "
+        for rest in ("self.book.sends()", "self.step()", "self.rows.append(1)", "self.rows.pop()", "self.steps[0]()"):
+            self.assertTrue(faults_of_properties([ast.parse(box), ast.parse(desk + rest + "\n")])["many"], rest)
+        for rest in ("self.n = 1", "self.rows[0] = 1", "self.n += 1", "del self.rows[0]", "self._other()"):
+            text = "class Desk:\n    def _told(self):\n        " + rest + "\n\n"
+            text += "    def _other(self):\n        self.n = 1\n"
+            self.assertTrue(faults_of_properties([ast.parse(box), ast.parse(text)])["many"], rest)
+        passed = "class Desk:\n    def _told(self, step):\n        return step()\n"
+        self.assertTrue(faults_of_properties([ast.parse(box), ast.parse(passed)])["many"])
 
     def test_builtins(self):
         for path, tree in self.each():
